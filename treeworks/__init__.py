@@ -1,0 +1,1 @@
+"""Treeworks: what is sure of the results of pipelines over trees."""
