@@ -51,7 +51,8 @@ class Stage:
         states = []
         for at, line in enumerate(lines[1:]):
             if line.startswith("state ") or at == 0:
-                states.append((*read_head(lines, at + 2, "state"), []))
+                state, takes, gives = read_head(lines, at + 2, "state")
+                states.append((state, takes, gives, []))
             elif " => " in line:
                 states[-1][3].append(line)
             else:

@@ -124,5 +124,6 @@ def add_pipeline_block(works, lines):
         raise BadLine(1)
     if len(lines) > 1:
         raise BadLine(2)
-    stages = [*[field[:-1] for field in fields[3:-1]], fields[-1]]
+    stages = [field[:-1] for field in fields[3:-1]]
+    stages.append(fields[-1])
     works.add_pipeline(fields[1], *stages)
