@@ -24,6 +24,20 @@ class SumRule:
         return (1 + sum(marks)) % self.number
 
 
+class TermRule:
+    """A rule for tests: the parts of one tree have lots of their own, and all other trees of a kind the same one."""
+
+    def __init__(self, tree):
+        self.terms = [tree[path].term for path in tree.paths()]
+
+    def digit_mark(self, digit):
+        return ""
+
+    def node_mark(self, maker, marks):
+        term = Tree(maker.name, *[Tree(mark) for mark in marks]).term
+        return term if term in self.terms else "other"
+
+
 class SizeRule:
     """A rule for tests: the levels of a chain count, up to a number; digits do not matter."""
 
@@ -37,6 +51,18 @@ class SizeRule:
         if not marks:
             return 1
         return min(max(marks) + 1, self.most) if len(set(marks)) == 1 else 0
+
+
+def exact_tree(full, size):
+    """A tree of this size over the full trees, with few different parts."""
+    if size <= 2:
+        return full[0] if size == 1 else Tree("S", full[0])
+    for tree in reversed(full):
+        if tree.size == size:
+            return tree
+        if tree.size + 2 <= size:
+            return Tree("P", tree, exact_tree(full, size - 1 - tree.size))
+    return None
 
 
 def mark_of(rule, tree):
@@ -127,6 +153,17 @@ class LotTableTest(unittest.TestCase, Raises):
         lots = LotTable(table, SizeRule(10))
         self.assertEqual(max(lots.least("K", lot).size for lot in range(lots.many("K"))), 1023)
         self.raises(LimitExceeded, LotTable, table, SizeRule(11), limit="lots")
+
+    def test_least_trees_of_2000_names(self):
+        table = Table.read("table t\nK: P K K = (12)\nK: S K = s1\nK: Z = z")
+        full = [Tree("Z")]
+        for _ in range(9):
+            full.append(Tree("P", full[-1], full[-1]))
+        tree = exact_tree(full, 2000)
+        lots = LotTable(table, TermRule(tree))
+        self.assertEqual(max(lots.least("K", lot).size for lot in range(lots.many("K"))), 2000)
+        self.assertEqual(lots.least("K", lots.lot(tree)), tree)
+        self.raises(LimitExceeded, LotTable, table, TermRule(Tree("S", tree)), limit="lots")
 
     def test_large_trees(self):
         tree = Tree("Nil")

@@ -139,6 +139,9 @@ class WordsTest(unittest.TestCase, Raises):
         self.assertEqual(pipeline.applied("z", read("Q(7)")).term, "7")
         self.assertEqual(pipeline.applied("n.b", read("Q(7)")).term, "Q(7)")
         self.raises(WrongTree, pipeline.applied, "n.b", read("E"), path=())
+        for word in ("a.n", "b.m", "a.z", "d.m"):
+            self.raises(Unknown, Pipeline(TO_DUO, BACK).applied, word, read("Nil"), name=word)
+        self.assertEqual(Pipeline(TO_DUO, BACK).applied("b.n", read("Nil")).term, "Neg(Nil)")
         self.raises(WrongTree, pipeline.applied, "z", read("R(Q(1))"), path=(0,))
 
     def test_no_words(self):

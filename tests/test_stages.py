@@ -134,6 +134,14 @@ class ResultsTest(unittest.TestCase, Raises):
         self.raises(LimitExceeded, stage, longer, limit="result")
         self.raises(LimitExceeded, stage.run, "b", longer, limit="result")
 
+    def test_digits_count_for_sizes_and_levels(self):
+        stage = Stage("same", P, P, ("a", "K", "K", ["S(x) => S(a(x))", "P(x, y) => P(a(x), a(y))", "D(n) => D(n)", "Z => Z"]))
+        more = Stage("more", P, P, ("a", "K", "K", ["S(x) => S(a(x))", "P(x, y) => P(a(x), a(y))", "D(n) => S(D(n))", "Z => Z"]))
+        for tree in (read("S(" * 58 + "D(3)" + ")" * 58), Tree("P", wide_tree(1997), read("D(3)"))):
+            self.assertEqual((tree.levels, tree.size) == (60, 60) or tree.size == 2000, True)
+            self.assertEqual(stage(tree), tree)
+            self.raises(LimitExceeded, more, tree, limit="result")
+
     def test_results_that_are_far_too_large(self):
         stage = Stage("s", P, P, ("a", "K", "K", ["S(x) => P(a(x), a(x))", "_ => Z"]))
         chain = read("S(" * 59 + "Z" + ")" * 59)

@@ -231,6 +231,11 @@ class BeginningsTest(unittest.TestCase, Raises):
         self.assertEqual(closing(table, "K", ""), "yz")
         self.assertEqual(closing(table, "K", "x"), "bb")
 
+    def test_closings_of_parts_in_another_order(self):
+        table = Table.read("table t\nA: M B digit = m2x1\nB: N C C = n21\nB: O digit C = 1o2\nC: Q = qq\nC: P = p")
+        self.assertEqual([closing(table, kind, "") for kind in ("A", "B", "C")], ["m0x0op", "0op", "p"])
+        self.assertEqual(closing(table, "A", "m4xn"), "pp")
+
     def test_closings_against_all_trees(self):
         for table, kind in ((LANG, "Expr"), (ODD, "K"), (ODD, "L")):
             texts = sorted([text_of(table, tree) for tree in right_trees(table, 7, "0")[kind]], key=lambda text: (len(text), text))

@@ -2,7 +2,7 @@ import unittest
 
 from helpers import LANG, Raises, read, right_trees, terms
 from treeworks.errors import BadCount, BadTerm, NoPlace
-from treeworks.trees import Tree, in_order
+from treeworks.trees import Tree, in_order, written_tree
 
 
 class TermsTest(unittest.TestCase, Raises):
@@ -40,6 +40,11 @@ class TermsTest(unittest.TestCase, Raises):
             "A;B", "A(10)", "A(_(B))", "A(2(B))", ",", ")", "A(B, C,D)", "A(digit)",
         ):
             self.raises(BadTerm, Tree.read, term, term=term)
+
+    def test_strings_without_the_form_of_a_term(self):
+        for text in ("", "A(", "A()", "A(, B)", "A(B, )", "A B", "(A)", "A(B)(C)", "x:(A)(B)"):
+            self.assertIsNone(written_tree(text))
+        self.assertEqual(written_tree("q(x:A(_), 12, a-b)").term, "q(x:A(_), 12, a-b)")
 
     def test_many_levels(self):
         term = "A(" * 59 + "B" + ")" * 59

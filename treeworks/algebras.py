@@ -36,8 +36,6 @@ class LotTable:
 
     def step(self, name, *lots):
         """The lot of a node whose parts have these lots, or of a digit."""
-        if name not in self.table and not is_digit(name):
-            raise Unknown(name)
         wants = () if is_digit(name) else self.table.maker(name).wants
         if len(lots) != len(wants):
             raise BadCount(len(lots))

@@ -18,10 +18,11 @@ class Row:
     @classmethod
     def read(cls, written):
         """The row that is written so."""
-        left, arrow, right = written.partition(" => ")
+        # Without an arrow nothing is left for the template.
+        left, _, right = written.partition(" => ")
         head = written_tree(left)
         template = written_tree(right)
-        if not arrow or head is None or template is None or not is_template(template):
+        if head is None or template is None or not is_template(template):
             raise BadTerm(written)
         if is_hole(head):
             return cls(written, HOLE, (), (), template)

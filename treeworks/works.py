@@ -117,8 +117,9 @@ def add_block(works, lines):
 
 
 def add_pipeline_block(works, lines):
+    """Adds a pipeline; the first line begins with `pipeline `."""
     fields = fields_of(lines[0])
-    if len(fields) < 4 or fields[0] != "pipeline" or fields[2] != "=":
+    if len(fields) < 4 or fields[2] != "=":
         raise BadLine(1)
     if not all([field.endswith(",") for field in fields[3:-1]]):
         raise BadLine(1)
