@@ -39,7 +39,7 @@ class Stage:
         self.target = target
         self.states = tuple(made)
         self.start = made[0].name
-        self.sights = Sights(source, [row for state in made for row in state.rows])
+        self.sights = Sights(source, [row for other in made for row in other.rows])
         self.description = description_of(name, source, target, made)
         check_cover(made, LotTable(source, self.sights))
 
