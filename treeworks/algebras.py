@@ -19,7 +19,9 @@ class LotTable:
     def __init__(self, table, rule):
         found, steps = grown_lots(table, rule)
         self.table = table
-        self._least = {kind: [lot[2] for lot in found if lot[0] == kind] for kind in (*table.kinds, DIGIT)}
+        kinds = (*table.kinds, DIGIT)
+        self._marks = {kind: [lot[1] for lot in found if lot[0] == kind] for kind in kinds}
+        self._least = {kind: [lot[2] for lot in found if lot[0] == kind] for kind in kinds}
         self._steps = numbered_steps(found, steps)
 
     def many(self, kind):
@@ -44,13 +46,26 @@ class LotTable:
                 raise BadIndex(lot)
         return self._steps[(name, lots)]
 
+    def next_lot(self, name, lots):
+        """As `step`, for a tuple of lots that is known to be right."""
+        return self._steps[(name, lots)]
+
+    def has_steps_of(self, other):
+        """True if the steps of both tables lead to lots of the same numbers."""
+        return self._steps == other._steps
+
+    def mark(self, kind, lot):
+        """The mark that the rule gives to the trees of a lot."""
+        return self._marks[kind][lot]
+
     def lot(self, tree):
         """The lot of a right tree of some kind, or of a digit."""
         self.table.check(tree, top_kind(self.table, tree))
-        return self._lot_of(tree)
+        return self.lot_of(tree)
 
-    def _lot_of(self, tree):
-        lots = [self._lot_of(part) for part in tree.parts]
+    def lot_of(self, tree):
+        """As `lot`, for a tree that is known to be right."""
+        lots = [self.lot_of(part) for part in tree.parts]
         return self._steps[(tree.name, tuple(lots))]
 
     def lines(self):

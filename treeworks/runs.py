@@ -4,7 +4,7 @@ from treeworks.errors import LimitExceeded
 from treeworks.names import is_digit
 from treeworks.rows import calls_of, is_call, is_variable
 from treeworks.tables import DIGIT
-from treeworks.trees import Tree, places
+from treeworks.trees import Tree, inner_numbers, places
 
 
 class StateRun:
@@ -42,19 +42,6 @@ class StateRun:
             numbers = dict(zip(row.variables, self._inner[number]))
             values[(number, state)] = folded(row.template, numbers, values, join)
         return values[(0, self._state)]
-
-
-def inner_numbers(found):
-    """For each place, by its number in reading order, the list of the numbers of its parts."""
-    inner = []
-    for number, (_, tree) in enumerate(found):
-        numbers = []
-        at = number + 1
-        for part in tree.parts:
-            numbers.append(at)
-            at += part.size
-        inner.append(numbers)
-    return inner
 
 
 def first_row(rows, tree):

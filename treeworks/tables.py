@@ -222,3 +222,11 @@ def top_kind(table, tree):
     if is_digit(tree.name):
         return DIGIT
     raise WrongTree(())
+
+
+def kind_due_at(table, kind, tree, path):
+    """The kind that is due at a place of a tree, at which this kind is due as a whole."""
+    for at in path:
+        kind = table.maker(tree.name).wants[at]
+        tree = tree.parts[at]
+    return kind

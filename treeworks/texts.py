@@ -51,6 +51,18 @@ def stretch(table, tree, path):
     return inside[0], inside[-1] + 1
 
 
+def stretches_of(table, tree, paths):
+    """The stretches of these paths, none of which is a prefix of another one, in the order of the text."""
+    wanted = {path: True for path in paths}
+    found = {}
+    for at, (_, place) in enumerate(laid_out(table, tree)):
+        for depth in range(len(place) + 1):
+            path = place[:depth]
+            if path in wanted:
+                found[path] = (found[path][0] if path in found else at, at + 1)
+    return list(found.values())
+
+
 def sign_path(table, tree, index):
     """The path of the place to which a character of the text belongs."""
     signs = laid_out(table, tree)

@@ -166,6 +166,19 @@ def places(tree):
     return found
 
 
+def inner_numbers(found):
+    """For each of the places of a tree, by its number in reading order, the list of the numbers of its parts."""
+    inner = []
+    for number, (_, tree) in enumerate(found):
+        numbers = []
+        at = number + 1
+        for part in tree.parts:
+            numbers.append(at)
+            at += part.size
+        inner.append(numbers)
+    return inner
+
+
 def in_order(trees):
     """The list of these trees in ascending order, equal ones once."""
     by_rank = {f"{tree.size:>9} {tree.term}": tree for tree in trees}
