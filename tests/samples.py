@@ -3,6 +3,7 @@
 from random import Random
 
 from treeworks.errors import LimitExceeded
+from treeworks.lots import lots_of
 from treeworks.pipelines import Pipeline
 from treeworks.stages import Stage
 from treeworks.tables import Table
@@ -83,3 +84,16 @@ def random_pipeline(seed, most_stages=3):
         except LimitExceeded:
             continue
         return Pipeline(*stages)
+
+
+def small_pipelines(seeds, most_stages=3):
+    """The pipelines of these seeds that are not refused because of their lots."""
+    found = []
+    for seed in seeds:
+        pipeline = random_pipeline(seed, most_stages)
+        try:
+            lots_of(pipeline)
+        except LimitExceeded:
+            continue
+        found.append(pipeline)
+    return found

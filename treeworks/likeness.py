@@ -21,7 +21,7 @@ class Likeness:
         self._forms = {}
         self._alike = {}
 
-    def difference(self, first, second, kinds, lots):
+    def told_apart(self, first, second, kinds, lots):
         """A list of parts of these kinds and lots for which two outlines lead to different results; None if none do."""
         marks, clash = self._compared(first, second)
         if clash is not None:

@@ -56,7 +56,7 @@ class Needs:
             if numbers[first] == numbers[lots] or key in compared:
                 continue
             compared[key] = True
-            parts = self._likeness.difference(numbers[first], numbers[lots], self.kinds, lots)
+            parts = self._likeness.told_apart(numbers[first], numbers[lots], self.kinds, lots)
             if parts is not None:
                 return self._with(parts, index, first[index]), self._with(parts, index, lots[index])
         return None
