@@ -6,20 +6,23 @@ from treeworks.tables import Table
 
 LEAVES = ["A", "B", "C", "D", "E", "F"]
 CHAIN = Table("chain", ("N", "S", ("N",), "s1"), *[("N", leaf, (), leaf.lower()) for leaf in LEAVES])
+FORKED = Table("forked", ("N", "S", ("N",), "s1"), ("N", "P", ("N", "N"), "(12)"),
+               *[("N", leaf, (), leaf.lower()) for leaf in LEAVES])
 
 
-def chain_stage(name, guarded):
+def chain_stage(name, guarded, table=CHAIN):
     """A stage that takes one `S` away, and that knows chains of at most two `S` above the guarded leaves."""
+    forks = [["P(x, y) => P(a(x), a(y))"], ["P(x, y) => P(b(x), b(y))"]] if table == FORKED else [[], []]
     copied = [f"{leaf} => {leaf}" for leaf in LEAVES]
-    states = [("a", "N", "N", ["S(x) => b(x)", *copied]), ("b", "N", "N", ["S(x) => S(b(x))", *copied])]
+    states = [("a", "N", "N", ["S(x) => b(x)", *forks[0], *copied]), ("b", "N", "N", ["S(x) => S(b(x))", *forks[1], *copied])]
     if guarded:
         states.append(("c", "N", "N", [*[f"S(x:S(S({leaf}))) => A" for leaf in guarded], "_ => A"]))
-    return Stage(name, CHAIN, CHAIN, *states)
+    return Stage(name, table, table, *states)
 
 
-def chain_pipeline(*guarded):
+def chain_pipeline(*guarded, table=CHAIN):
     """A pipeline of such stages; the first one has 3 lots for each guarded leaf and more, each other one adds some."""
-    return Pipeline(*[chain_stage(f"s{at}", leaves) for at, leaves in enumerate(guarded)])
+    return Pipeline(*[chain_stage(f"s{at}", leaves, table) for at, leaves in enumerate(guarded)])
 
 
 PAIRS = Table.read("table pairs\nN: P N N = (12)\nN: Z = z\nN: B = b")

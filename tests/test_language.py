@@ -167,6 +167,16 @@ class ExpressionsTest(unittest.TestCase):
 
 
 class NamesTest(unittest.TestCase):
+    def test_no_own_name_is_that_of_a_builtin_value(self):
+        taken = {name for value in ("", 0, [], {}, set(), b"", (), range(1)) for name in dir(value)} - METHODS
+        own = [(path, part) for path, node in nodes(ast.ClassDef) for part in node.body if isinstance(part, ast.FunctionDef)]
+        for path, part in own:
+            self.assertTrue(part.name.startswith("__") or part.name not in taken, where(path, part))
+        for path, node in nodes(ast.Attribute):
+            if isinstance(node.ctx, ast.Store):
+                self.assertNotIn(node.attr, taken, where(path, node))
+                self.assertTrue(node.attr in ("count", "index", "title") or node.attr not in METHODS, where(path, node))
+
     def test_builtins(self):
         for path, node in nodes(ast.Name):
             if isinstance(node.ctx, ast.Load) and hasattr(builtins, node.id):

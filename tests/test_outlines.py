@@ -1,7 +1,7 @@
 import unittest
 from itertools import product
 
-from bounds import LEAVES, chain_pipeline
+from bounds import FORKED, LEAVES, chain_pipeline
 from helpers import LANG, ODD, Raises, read, right_trees, terms
 from samples import small_pipelines
 from test_lots import MIXED, TIDY, chain
@@ -278,6 +278,13 @@ class NeededTest(unittest.TestCase, Raises):
                 self.raises(LimitExceeded, two_fillings, cube, tree, (0,), limit="choices")
             else:
                 self.assertEqual(len(self.check_two(cube, tree)), 3)
+
+    def test_nine_hundred_choices(self):
+        sure = Sure(chain_pipeline(LEAVES, LEAVES, LEAVES[:5], table=FORKED))
+        self.assertEqual(sure.walk.lots.many("N"), 30)
+        tree = read("P(S(_), P(C, _))")
+        self.assertEqual(self.check_two(sure, tree), [(0, 0), (1, 1)])
+        self.assertEqual(sure_result(sure, tree).term, "P(_, P(C, _))")
 
     def test_the_order_of_choices_and_holes(self):
         pipeline, tree = cube_pipeline(11)
