@@ -174,8 +174,8 @@ class NamesTest(unittest.TestCase):
             self.assertTrue(part.name.startswith("__") or part.name not in taken, where(path, part))
         for path, node in nodes(ast.Attribute):
             if isinstance(node.ctx, ast.Store):
-                self.assertNotIn(node.attr, taken, where(path, node))
-                self.assertTrue(node.attr in ("count", "index", "title") or node.attr not in METHODS, where(path, node))
+                free = node.attr in ("count", "index", "title")
+                self.assertTrue(free or node.attr not in taken | METHODS, where(path, node))
 
     def test_builtins(self):
         for path, node in nodes(ast.Name):
