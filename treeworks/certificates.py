@@ -1,8 +1,7 @@
 """Writing and reading certificates (points 48 to 51)."""
 
 from treeworks.errors import BadCertificate, BadTerm
-from treeworks.names import is_digit, is_small_name
-from treeworks.tours import read_path, written_path
+from treeworks.names import is_digit, is_small_name, read_path, written_path
 from treeworks.trees import Tree
 
 MOST_DIGITS = 9

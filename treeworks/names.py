@@ -1,4 +1,4 @@
-"""Names, digits, signs and the fields of lines (points 3 and 9)."""
+"""Names, digits, signs, the fields of lines and written paths (points 3, 9 and 50)."""
 
 DIGITS = "0123456789"
 MARKS = "()[]<>+-*/.,;:!?=&|^~@#"
@@ -39,3 +39,13 @@ def fields_of(line):
     """The fields of a line, or an empty list if it has needless spaces or nothing in it."""
     fields = line.split(" ")
     return fields if all([len(field) > 0 for field in fields]) else []
+
+
+def written_path(path):
+    """The integers of a path joined by points, or `-` for the empty path."""
+    return ".".join([str(at) for at in path]) if path else "-"
+
+
+def read_path(written):
+    """The path that is written so."""
+    return tuple([int(at) for at in written.split(".")]) if written != "-" else ()

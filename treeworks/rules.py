@@ -1,7 +1,7 @@
 """Rules for the lots of sets of trees (points 32 to 34); for rules see `LotTable`."""
 
 from treeworks.tables import DIGIT
-from treeworks.trees import is_hole, places
+from treeworks.trees import inner_numbers, is_hole, places
 
 
 class EveryRule:
@@ -41,22 +41,29 @@ class CoverRule:
 
 
 class SingleRule:
-    """Each part of a tree is alike only to itself, and all other trees of a kind are alike."""
+    """Each part of a tree is alike only to itself, and all other trees of a kind are alike.
+
+    The mark of a part is a number from 1 on, that of all other trees 0.
+    """
 
     def __init__(self, tree):
-        self.terms = {part.term: True for _, part in places(tree)}
+        found = places(tree)
+        inner = inner_numbers(found)
+        marks = [0 for _ in found]
+        self.numbers = {}
+        for at in reversed(range(len(found))):
+            key = (found[at][1].name, tuple([marks[kid] for kid in inner[at]]))
+            if key not in self.numbers:
+                self.numbers[key] = len(self.numbers) + 1
+            marks[at] = self.numbers[key]
 
     def digit_mark(self, digit):
-        """The mark of a digit: its term or the empty string."""
-        return digit if digit in self.terms else ""
+        """The number of a digit."""
+        return self.numbers.get((digit, ()), 0)
 
     def node_mark(self, maker, marks):
-        """The mark of a node whose parts have these marks: its term or the empty string."""
-        if "" in marks:
-            return ""
-        inner = ", ".join(marks)
-        term = f"{maker.name}({inner})" if marks else maker.name
-        return term if term in self.terms else ""
+        """The number of a node whose parts have these marks."""
+        return self.numbers.get((maker.name, tuple(marks)), 0)
 
 
 class PairRule:

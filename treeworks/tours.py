@@ -1,5 +1,6 @@
 """Results of words for parts of trees, where each hole stands for all trees of one lot (points 29 and 40)."""
 
+from treeworks.names import read_path, written_path
 from treeworks.stores import Store, stored_tree
 from treeworks.tables import DIGIT
 from treeworks.trees import places
@@ -85,10 +86,6 @@ def mark_of(word, path):
     return f"{word}@{written_path(path)}"
 
 
-def written_path(path):
-    return ".".join([str(at) for at in path]) if path else "-"
-
-
 def is_mark(tree):
     """True if the top of an outline is a mark."""
     return len(tree.parts) == 1 and (tree.name == DIGIT or "@" in tree.name)
@@ -100,11 +97,6 @@ def read_mark(name):
         return name, ()
     word, _, written = name.partition("@")
     return word, read_path(written)
-
-
-def read_path(written):
-    """The path that is written so."""
-    return tuple([int(at) for at in written.split(".")]) if written != "-" else ()
 
 
 def all_visits(walk, tour, tree, numbers):
