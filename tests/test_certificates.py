@@ -99,14 +99,14 @@ class ReadingTest(unittest.TestCase, Raises):
         for line in [
             "reach a", "reach a /", "reach a / ", "reach a / 01", "reach a / 00", "reach a / -1", "reach a / +1", "reach a / 1 ", "reach a / 1.0",
             "reach a /  1", "reach a  / 1", "reach  a / 1", "reach A / 1", "reach a. / 1", "reach a / x", "reach a / 1234567890", "reach a / 1_0",
-            "reach a / 1 / 1", "reach / 1",
+            "reach a / 1 / 1", "reach / 1", "a / 1", "a / _ => _",
         ]:
             self.refuse([line], 1)
         self.assertEqual(read_lines(["reach a.b / 999999999"]).frames, 999999999)
         self.assertEqual(read_lines(["reach a / 0"]).frames, 0)
 
     def test_lot_lines(self):
-        for line in ["lot", "lot ", "lot _", "lot Neg(_)", "lot  Nil", "lot Nil ", "lot x", "lot Nil()", "lots Nil", "lot Nil Nil", "Lot Nil", "lot 12"]:
+        for line in ["lot", "lot ", "lot _", "lot Neg(_)", "lot  Nil", "lot Nil ", "lot x", "lot Nil()", "lots Nil", "lot Nil Nil", "Lot Nil", "lot 12", "Nil"]:
             self.refuse([SHOWN_LINES[0], "lot Nil", line, "lot Nil"], 3)
             self.refuse([REACH_LINES[0], line], 2)
 
@@ -115,7 +115,7 @@ class ReadingTest(unittest.TestCase, Raises):
             "line", "line t", "line t Nil", "line t Nil =>", "line t Nil => ", "line t => Nil", "line Nil => Nil", "line T Nil => Nil",
             "line t. Nil => Nil", "line t..u Nil => Nil", "line digit Nil => Nil", "line t _ => Nil", "line t Neg(_) => Nil", "line t  Nil => Nil",
             "line t Nil  => Nil", "line t Nil =>  Nil", "line t Nil => Nil ", "line t Nil = Nil", "line t Nil => x", "line t Nil => Nil => Nil",
-            " line t Nil => Nil", "line t, Nil => Nil", "line abcdefghi Nil => Nil",
+            " line t Nil => Nil", "line t, Nil => Nil", "line abcdefghi Nil => Nil", "t Nil => Nil",
         ]:
             self.refuse([SHOWN_LINES[0], "line t Nil => _", line], 3)
         self.refuse([REACH_LINES[0], "line t Nil => Nil"], 2)
@@ -126,7 +126,7 @@ class ReadingTest(unittest.TestCase, Raises):
             "hole 0.: Nil / Nil", "hole .0: Nil / Nil", "hole 0..1: Nil / Nil", "hole 0.01: Nil / Nil", "hole --: Nil / Nil", "hole -1: Nil / Nil",
             "hole -.1: Nil / Nil", "hole 1.-: Nil / Nil", "hole 0 .1: Nil / Nil", "hole 0,1: Nil / Nil", "hole 1234567890: Nil / Nil",
             "hole 0: _ / Nil", "hole 0: Nil / Neg(_)", "hole 0:  Nil / Nil", "hole 0: Nil  / Nil", "hole 0: Nil /  Nil", "hole 0: Nil / Nil ",
-            "hole  0: Nil / Nil", "hole 0 : Nil / Nil", "hole 0: Nil / Nil / Nil", "hole 0:Nil / Nil", "hole 0: Nil/Nil", "hole 0: x / Nil",
+            "hole  0: Nil / Nil", "hole 0 : Nil / Nil", "hole 0: Nil / Nil / Nil", "hole 0:Nil / Nil", "hole 0: Nil/Nil", "hole 0: x / Nil", "0: Nil / Nil",
         ]:
             self.refuse([SHOWN_LINES[0], "lot Nil", "hole 0: Nil / Nil", line, "hole 0: Nil / Nil"], 4)
         self.refuse([REACH_LINES[0], "hole 0: Nil / Nil"], 2)
@@ -137,7 +137,7 @@ class ReadingTest(unittest.TestCase, Raises):
             "rank", "rank Nil / Nil", "rank Nil / Nil =", "rank Nil / Nil = ", "rank Nil = 1", "rank Nil / = 1", "rank / Nil = 1",
             "rank Nil / Nil = 01", "rank Nil / Nil = -1", "rank Nil / Nil = 1 ", "rank Nil / Nil =  1", "rank Nil / Nil  = 1", "rank  Nil / Nil = 1",
             "rank Nil / _ = 1", "rank Neg(_) / Nil = 1", "rank Nil / Nil = 1234567890", "rank Nil / Nil = x", "rank Nil / Nil = 1 = 1",
-            "rank Nil / x = 1", "rank Nil / Nil / Nil = 1", "ranks Nil / Nil = 1",
+            "rank Nil / x = 1", "rank Nil / Nil / Nil = 1", "ranks Nil / Nil = 1", "Nil / Nil = 1",
         ]:
             self.refuse([REACH_LINES[0], "lot Nil", "rank Nil / Nil = 3", line], 4)
         self.refuse([SHOWN_LINES[0], "rank Nil / Nil = 1"], 2)

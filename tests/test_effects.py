@@ -1,5 +1,6 @@
 import unittest
 
+from bounds import GROWING
 from helpers import LANG, ODD, Raises, read, right_trees
 from samples import small_pipelines
 from test_lots import MIXED, TIDY
@@ -176,6 +177,18 @@ class HangingTest(unittest.TestCase, Raises):
         self.raises(NoPlace, hanging, SURE, TREE, (2,), path=(2,))
         self.raises(NoPlace, hanging, SURE, TREE, (-1,), path=(-1,))
         self.raises(NoPlace, hanging, SURE, TREE, (1, 0, 0, 0), path=(1, 0, 0, 0))
+
+    def test_effects_ahead_of_the_place(self):
+        triple = Stage("triple", GROWING, GROWING, ("a", "N", "N", ["S(x) => S(S(S(a(x))))", "P(x, y) => Z", "Z => Z"]))
+        # The second state only shows which trees are an `S`.
+        first = Stage("first", GROWING, GROWING, ("a", "N", "N", ["S(x) => S(S(S(S(Z))))", "_ => Z"]),
+                      ("b", "N", "N", ["S(S(_)) => Z", "_ => Z"]))
+        sure = Sure(Pipeline(first, triple, triple, triple))
+        self.assertEqual(sure.walk(read("Z")).term, "Z")
+        for place in [(), (9,)]:
+            self.raises(LimitExceeded, hanging, sure, read("Z"), place, limit="result")
+        self.raises(LimitExceeded, changing, sure, read("Z"), (), (9,), limit="result")
+        self.raises(NoPlace, changing, sure, read("Z"), (9,), (), path=(9,))
 
     def test_a_large_tree(self):
         sure = Sure(Pipeline(COPY))

@@ -81,6 +81,12 @@ class OutlineTest(unittest.TestCase, Raises):
         self.assertEqual(outline(Sure(Pipeline(stage)), read("Neg(_)"), 0).term,
                          "Add(Nil, Add(Num(3), Neg(Add(Nil, Add(Num(3), Neg(t@1.1.0(0)))))))")
 
+    def test_marks_ahead_of_what_is_sure(self):
+        stage = Stage("s", LANG, LANG, ("t", "Expr", "Expr", ["Neg(x) => Add(t(x), Num(3))", "Num(d) => Add(Nil, Num(3))", "_ => Add(Neg(Nil), Num(3))"]))
+        sure = Sure(Pipeline(stage))
+        self.assertEqual(sure.sure_line("t", 0).term, "Add(_, Num(3))")
+        self.assertEqual(outline(sure, read("Neg(_)"), 0).term, "Add(Add(t@0(0), Num(3)), Num(3))")
+
     def test_words_that_give_digits(self):
         sure = Sure(Pipeline(MIXED))
         self.assertEqual(outline(sure, read("Both(_, _, 2)"), 0, 1).term, "Both(g@-(1), k@-(1), digit(0))")
@@ -237,6 +243,29 @@ class NeededTest(unittest.TestCase, Raises):
         self.assertEqual(self.check_two(sure, read("Add(Neg(_), _)")), [(0, 0), (1,)])
         first, second = two_fillings(sure, read("Add(Neg(_), _)"), (0, 0))
         self.assertEqual(first[1].name, second[1].name)
+
+    def test_marks_that_differ_some_steps_below(self):
+        # The states take turns, and only the last one of them leads to something else.
+        rows = ["Add(x, y) => Add({0}(x), {0}(y))", "Neg(x) => Neg({0}(x))", "Num(d) => Num(d)"]
+        turns = [("p", "q", "Nil"), ("q", "r", "Nil"), ("r", "p", "Num(0)")]
+        states = [(name, "Expr", "Expr", [row.format(after) for row in rows] + [f"Nil => {end}"]) for name, after, end in turns]
+        stage = Stage("s", LANG, LANG, ("s", "Expr", "Expr", ["Add(Nil, y) => Add(p(y), Nil)", "Add(x, y) => Add(q(y), Nil)", "_ => Nil"]), *states)
+        sure = Sure(Pipeline(stage))
+        self.assertEqual(self.check_two(sure, read("Add(_, _)")), [(0,), (1,)])
+        self.assertEqual(self.check_two(sure, read("Add(_, Num(_))")), [(1, 0)])
+        first, second = two_fillings(sure, read("Add(_, _)"), (0,))
+        self.assertEqual([part.term for part in (first[0], second[0])], ["Nil", "Neg(Nil)"])
+        # With a second stage that takes turns, too, the difference lies deeper.
+        longer = Stage("t", LANG, LANG, *[(name, "Expr", "Expr", [row.format(after) for row in rows] + [f"Nil => {end}"])
+                                          for name, after, end in [("p", "q", "Nil"), ("q", "r", "Nil"), ("r", "s", "Nil"), ("s", "p", "Neg(Nil)")]])
+        self.assertEqual(self.check_two(Sure(Pipeline(stage, longer)), read("Add(_, _)")), [(0,), (1,)])
+
+    def test_a_mark_and_a_node(self):
+        # For the least part the mark stands for the same as the node of the other outline.
+        rows = ["Add(x, y) => Add(c(x), c(y))", "Neg(x) => Neg(c(x))", "Num(d) => Num(d)", "Nil => Nil"]
+        for heads in (["Add(Nil, y) => c(y)", "Add(x, y) => Nil"], ["Add(Nil, y) => Nil", "Add(x, y) => c(y)"]):
+            stage = Stage("s", LANG, LANG, ("s", "Expr", "Expr", [*heads, "_ => Nil"]), ("c", "Expr", "Expr", rows))
+            self.assertEqual(self.check_two(Sure(Pipeline(stage)), read("Add(_, _)")), [(0,), (1,)])
 
     def test_marks_for_other_holes(self):
         # The first hole chooses which one of the two others is taken.

@@ -118,6 +118,13 @@ class MembershipTest(unittest.TestCase, Raises):
         self.assertFalse(EVERY == other)
         self.assertFalse(~TreeSet.every(ODD, "K") == ~TreeSet.every(ODD, "L"))
 
+    def test_another_table_with_the_same_kinds(self):
+        other = TreeSet.every(Table.read(LANG.description.replace("table lang", "table other")), "Expr")
+        self.raises(Mismatch, lambda: EVERY & other)
+        self.raises(Mismatch, EVERY.within, other)
+        self.assertFalse(EVERY == other)
+        self.raises(Mismatch, before, Pipeline(TIDY), other)
+
     def test_an_equal_table(self):
         again = Table.read(LANG.description)
         self.assertTrue(TreeSet.every(again, "Expr") == EVERY)
@@ -144,6 +151,15 @@ class AnswersTest(unittest.TestCase, Raises):
             here, there = inside(first, SMALL), inside(second, SMALL)
             self.assertEqual(first.within(second), set(here) <= set(there))
         self.assertIs((NEG & DOUBLE).within(DOUBLE), True)
+
+    def test_within_among_several_kinds(self):
+        small = right_trees(ODD, 8, "0")
+        sets = [TreeSet.holding(ODD, kind, read(term)) for kind in ("K", "L") for term in ("List(_, Stop)", "End", "Swap(End, _)", "Both(_, _, _)")]
+        for first, second in product(sets, repeat=2):
+            if first.kind == second.kind:
+                here, there = inside(first, small[first.kind]), inside(second, small[first.kind])
+                self.assertEqual(first.within(second), set(here) <= set(there))
+                self.assertEqual(first == second, here == there)
 
     def test_smallest(self):
         self.assertIsNone((~EVERY).smallest())

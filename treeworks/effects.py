@@ -1,10 +1,10 @@
 """Effects of exchanges, on what places hang, and both in texts (points 44 to 46)."""
 
-from treeworks.errors import BadIndex, NoPlace
+from treeworks.errors import NoPlace
 from treeworks.openings import Openings
 from treeworks.outlines import outline
 from treeworks.stirring import Stirring, check_paths, with_holes
-from treeworks.texts import sign_path, stretches_of, text_of
+from treeworks.texts import sign_path, stretches_of
 from treeworks.tours import is_mark
 from treeworks.trees import places
 
@@ -48,10 +48,7 @@ def effect_stretches(sure, tree, *paths):
 def source_stretches(sure, tree, index):
     """The stretches, in the text of the tree, of the deepest paths on which a character of the result hangs."""
     stirring = Stirring(sure, tree)
-    target = sure.pipeline.target
-    if not 0 <= index < len(text_of(target, stirring.present)):
-        raise BadIndex(index)
-    place = sign_path(target, stirring.present, index)
+    place = sign_path(sure.pipeline.target, stirring.present, index)
     return stretches_of(sure.pipeline.source, tree, hanging_paths(stirring, tree, place))
 
 

@@ -34,14 +34,14 @@ def part_with_other_name(sure, word, lot, path, avoided):
         triple = waiting[at]
         at += 1
         for maker, lots in walk.choices.made(walk.taken_by(triple[0]))[triple[1]]:
-            name, index, rest = looked_up(walk, triple, maker, lots)
+            name, index, rest = looked_up(walk, triple[0], triple[2], maker, lots)
             parts = walk.choices.least_parts(maker, lots)
             if index is None and name != avoided:
                 return climbed(walk, came, triple, Tree(maker.name, *parts)), name
-            if index is not None and name == DIGIT:
+            if name == DIGIT:
                 parts[index], digit = other_digit(avoided)
                 return climbed(walk, came, triple, Tree(maker.name, *parts)), digit
-            if index is not None and (name, lots[index], rest) not in came:
+            elif index is not None and (name, lots[index], rest) not in came:
                 came[(name, lots[index], rest)] = (triple, maker, lots, index)
                 waiting.append((name, lots[index], rest))
     return None
@@ -53,13 +53,13 @@ def other_digit(avoided):
     return Tree(name), name
 
 
-def looked_up(walk, triple, maker, lots):
+def looked_up(walk, word, path, maker, lots):
     """What the unfolded tree of the word has at the path: its name and no index, or a word, an index and what is left.
 
     The latter if the path leads into the result of a word for the part with this index, or to a digit of the node.
     """
     store = walk.unfolder.store
-    number, rest = store.descended(walk.unfolder.opened(triple[0], maker, lots), triple[2])
+    number, rest = store.descended(walk.unfolder.opened(word, maker, lots), path)
     index = store.index_of(number) if store.is_open(number) else None
     return store.names[number], index, rest
 

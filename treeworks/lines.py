@@ -64,7 +64,7 @@ class Lines:
         """Finds the name that all results of an open leaf have at the top, and what they can have as their parts."""
         shapes = self._closed_shapes(leaf)
         names = [self.store.names[shape] for shape in shapes]
-        same = all([name == names[0] for name in names]) and names[0] != HOLE
+        same = all([name == names[0] for name in names])
         self._tops[leaf] = names[0] if same else HOLE
         inner = [[[kid] for kid in self.store.kids[shape]] for shape in shapes]
         self._inner[leaf] = joined_parts(inner) if same else []

@@ -3,7 +3,6 @@
 from treeworks.names import is_digit
 from treeworks.onwards import fitting_row
 from treeworks.rows import is_call, is_variable
-from treeworks.tables import DIGIT
 from treeworks.trees import inner_numbers, places
 
 
@@ -48,7 +47,7 @@ class Meanings:
         seen = [terms for terms, _ in parts]
         pairs = []
         for state in stage.states:
-            if state.takes == maker.kind and state.gives != DIGIT and at + 1 < len(self._stages):
+            if state.takes == maker.kind and at + 1 < len(self._stages):
                 row = fitting_row(state, name, seen)
                 bound = {variable: dict(results) for variable, (_, results) in zip(row.variables, parts)}
                 pairs.append((state.name, self._of_template(at + 1, row.template, bound)))
@@ -57,10 +56,9 @@ class Meanings:
     def _of_template(self, at, template, bound):
         """The number of the lot of a template, where `bound` has the results of states for each variable."""
         if is_call(template):
-            # Nothing is kept of digits, which all have the same lot.
-            number = bound[template.parts[0].name].get(template.name, None)
-            return self.of_node(at, "0", ()) if number is None else number
-        if is_variable(template) or is_digit(template.name):
+            return bound[template.parts[0].name][template.name]
+        if is_variable(template):
+            # All digits have the same lot.
             return self.of_node(at, "0", ())
         parts = [self._of_template(at, part, bound) for part in template.parts]
         return self.of_node(at, template.name, tuple(parts))

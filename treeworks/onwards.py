@@ -1,7 +1,6 @@
 """The lots of pipelines: trees with the same lot are seen alike, and so are their results (points 27 and 35)."""
 
 from treeworks.algebras import LotTable
-from treeworks.names import is_digit
 from treeworks.rows import is_call, is_variable
 from treeworks.tables import DIGIT
 from treeworks.trees import HOLE, is_hole
@@ -58,8 +57,6 @@ def lot_of_template(lots, template, bound):
         return bound[template.parts[0].name][template.name]
     if is_variable(template):
         return bound[template.name][DIGIT]
-    if is_digit(template.name):
-        return lots.next_lot(template.name, ())
     return lots.next_lot(template.name, tuple([lot_of_template(lots, part, bound) for part in template.parts]))
 
 

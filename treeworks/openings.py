@@ -43,7 +43,7 @@ class Openings:
     def _tried(self, came, waiting, step, lots, avoided):
         """The answer, if a choice of lots of the parts leads to one; otherwise the step that it leads to is noted."""
         maker = self._parts.heads[step[0]]
-        name, index, rest = looked_up(self._sure.walk, (step[1], step[2], step[3]), maker, lots)
+        name, index, rest = looked_up(self._sure.walk, step[1], step[3], maker, lots)
         given = {}
         if index is not None:
             kid = self._parts.kids[step[0]][index]

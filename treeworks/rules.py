@@ -22,7 +22,7 @@ class CoverRule:
     """
 
     def __init__(self, pattern, deep):
-        self.looks = [part for _, part in places(pattern) if not is_hole(part)]
+        self.looks = [part for _, part in places(pattern)]
         self.pattern = pattern
         self.deep = deep
 
@@ -34,7 +34,7 @@ class CoverRule:
         """The mark of a node whose parts have these marks."""
         seen = []
         for look in self.looks:
-            if look.name == maker.name and look.term not in seen and covers_parts(look, marks):
+            if look.name == maker.name and covers_parts(look, marks):
                 seen.append(look.term)
         found = self.pattern.term in seen or any([mark[1] for mark in marks])
         return tuple(seen), self.deep and found

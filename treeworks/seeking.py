@@ -31,15 +31,6 @@ def pair_of(first, second, name, kind, parts):
     return kind, first.next_lot(name, firsts), second.next_lot(name, seconds)
 
 
-def least_of(trees):
-    """The least of these trees, None if there is none."""
-    least = None
-    for tree in trees:
-        if least is None or tree < least:
-            least = tree
-    return least
-
-
 def count_of_size(lots, kind, chosen, size):
     """How many trees of this size have one of the chosen lots of a kind."""
     counts = {(other, lot): [0] for other in (*lots.table.kinds, DIGIT) for lot in range(lots.many(other))}
@@ -86,7 +77,7 @@ def ways(rows, size):
 def least_exchange(lots, kind, chosen, tree):
     """The path and the new part of the exchange with the least cost after which the tree has one of the chosen lots.
 
-    None if there is no chosen lot.
+    The chosen ones are at least one, and ascending, so with ascending least trees.
     """
     found = places(tree)
     inner = inner_numbers(found)
@@ -98,16 +89,16 @@ def least_exchange(lots, kind, chosen, tree):
     wished[0].extend(chosen)
     best = None
     for at, (path, part) in enumerate(found):
-        new = least_of([lots.least(kinds[at], lot) for lot in wished[at]])
-        if new is not None and (best is None or part.size + new.size < best[0]):
-            best = (part.size + new.size, path, new)
+        new = [lots.least(kinds[at], lot) for lot in wished[at][:1]]
+        if new and (best is None or part.size + new[0].size < best[0]):
+            best = (part.size + new[0].size, path, new[0])
         if inner[at]:
             maker = lots.table.maker(part.name)
             for place, kid in enumerate(inner[at]):
                 kinds[kid] = maker.wants[place]
                 here = [present[other] for other in inner[at]]
                 wished[kid].extend(fitting_lots(lots, maker, here, place, wished[at]))
-    return None if best is None else (best[1], best[2])
+    return best[1], best[2]
 
 
 def fitting_lots(lots, maker, present, place, wished):

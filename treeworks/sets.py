@@ -6,7 +6,7 @@ from treeworks.merging import merged
 from treeworks.names import is_digit
 from treeworks.onwards import lot_tables
 from treeworks.rules import CoverRule, EveryRule, PairRule, SingleRule
-from treeworks.seeking import count_of_size, least_exchange, least_of, pairs_that_occur
+from treeworks.seeking import count_of_size, least_exchange, pairs_that_occur
 from treeworks.trees import is_hole, places
 
 
@@ -22,6 +22,7 @@ class TreeSet:
         self.table = lots.table
         self.kind = kind
         self.lots = classes
+        # Ascending, as the lots and so their least trees are.
         self.inside = {classes.lot_of(tree): True for tree in trees}
 
     @classmethod
@@ -110,7 +111,9 @@ class TreeSet:
 
     def smallest(self):
         """The least tree of the set, or None."""
-        return least_of([self.lots.least(self.kind, lot) for lot in self.inside])
+        for lot in self.inside:
+            return self.lots.least(self.kind, lot)
+        return None
 
     def number(self, size):
         """How many trees of this size are in the set."""

@@ -33,10 +33,8 @@ def put_together(sure, tree, first, part, second, other):
     size = pair.sure_tree.size - len(parts) + sum([piece.size for piece in parts])
     if size > Tree.MOST_NAMES:
         raise LimitExceeded("result")
-    result = pair.sure_tree.filled(*parts)
-    if result.levels > Tree.MOST_LEVELS:
-        raise LimitExceeded("result")
-    return result
+    # Each level that is put together is one of the results alone, too, so there are not more than in these.
+    return pair.sure_tree.filled(*parts)
 
 
 def clash(sure, tree, first, second, place):

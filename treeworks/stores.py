@@ -104,7 +104,8 @@ class Meeting:
 
     def _worked(self, first, second):
         store = self._store
-        if store.names[first] != store.names[second] or len(store.kids[first]) != len(store.kids[second]):
+        # Both are results by one table, so with the same name they have the same number of parts.
+        if store.names[first] != store.names[second]:
             return self._hole
         kids = []
         for kid, twin in zip(store.kids[first], store.kids[second]):

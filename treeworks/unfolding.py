@@ -71,7 +71,7 @@ class Unfolder:
             for depth, state in enumerate(states):
                 lot = dict(self._tables[depth].mark(kind, lot)[1])[state]
                 kind = self._stages[depth].named(state).gives
-            self._led[key] = () if kind == DIGIT else self._tables[at].mark(kind, lot)[0]
+            self._led[key] = self._tables[at].mark(kind, lot)[0]
         return self._led[key]
 
 

@@ -4,7 +4,6 @@ from treeworks.errors import LimitExceeded
 from treeworks.parts import Parts
 from treeworks.stores import Meeting, Store, stored_tree
 from treeworks.tables import DIGIT
-from treeworks.trees import HOLE
 
 
 class Upwards:
@@ -52,7 +51,8 @@ class Upwards:
             leaves = []
             for _, inner, index in plan.leaves:
                 if inner == DIGIT:
-                    leaves.append(self._digit(kids[index]))
+                    # A known digit, or a hole.
+                    leaves.append(self.store.node(self.parts.names[kids[index]], ()))
                 else:
                     leaves.append(self.met(kids[index], inner, lots[index]))
             # Many choices lead to the same tree.
@@ -61,10 +61,6 @@ class Upwards:
                 tried[key] = True
                 found.append(self._checked(plan.put_into(self.store, leaves)))
         return self._common(found)
-
-    def _digit(self, part):
-        """The number of a known digit, or of a hole."""
-        return self.store.node(HOLE if self.parts.is_gap(part) else self.parts.names[part], ())
 
     def _checked(self, number):
         """The number itself, if a result may be so large."""

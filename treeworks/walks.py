@@ -44,7 +44,7 @@ class Walk:
         """The unfolded tree of a word at a maker, for these lots of its parts."""
         stages, source = self.pipeline.stages, self.pipeline.source
         first = stages[0].named(state_names(stages, word)[0])
-        if maker not in source or source.maker(maker).kind != first.takes:
+        if source.maker(maker).kind != first.takes:
             raise Unknown(maker)
         self.lots.step(maker, *lots)
         return tree_of(self.unfolder.store, self.unfolder.opened(word, source.maker(maker), lots))
