@@ -249,10 +249,11 @@ class NeededTest(unittest.TestCase, Raises):
         rows = ["Add(x, y) => Add({0}(x), {0}(y))", "Neg(x) => Neg({0}(x))", "Num(d) => Num(d)"]
         turns = [("p", "q", "Nil"), ("q", "r", "Nil"), ("r", "p", "Num(0)")]
         states = [(name, "Expr", "Expr", [row.format(after) for row in rows] + [f"Nil => {end}"]) for name, after, end in turns]
-        stage = Stage("s", LANG, LANG, ("s", "Expr", "Expr", ["Add(Nil, y) => Add(p(y), Nil)", "Add(x, y) => Add(q(y), Nil)", "_ => Nil"]), *states)
+        stage = Stage("s", LANG, LANG, ("s", "Expr", "Expr", ["Add(Neg(_), y) => Add(p(y), Nil)", "Add(x, y) => Add(q(y), Nil)", "_ => Nil"]), *states)
         sure = Sure(Pipeline(stage))
         self.assertEqual(self.check_two(sure, read("Add(_, _)")), [(0,), (1,)])
         self.assertEqual(self.check_two(sure, read("Add(_, Num(_))")), [(1, 0)])
+        self.assertEqual(self.check_two(sure, read("Add(_, Neg(_))")), [(0,), (1, 0)])
         first, second = two_fillings(sure, read("Add(_, _)"), (0,))
         self.assertEqual([part.term for part in (first[0], second[0])], ["Nil", "Neg(Nil)"])
         # With a second stage that takes turns, too, the difference lies deeper.
@@ -263,7 +264,7 @@ class NeededTest(unittest.TestCase, Raises):
     def test_a_mark_and_a_node(self):
         # For the least part the mark stands for the same as the node of the other outline.
         rows = ["Add(x, y) => Add(c(x), c(y))", "Neg(x) => Neg(c(x))", "Num(d) => Num(d)", "Nil => Nil"]
-        for heads in (["Add(Nil, y) => c(y)", "Add(x, y) => Nil"], ["Add(Nil, y) => Nil", "Add(x, y) => c(y)"]):
+        for heads in (["Add(x:Neg(_), y) => c(y)", "Add(x, y) => Nil"], ["Add(x:Neg(_), y) => Nil", "Add(x, y) => c(y)"]):
             stage = Stage("s", LANG, LANG, ("s", "Expr", "Expr", [*heads, "_ => Nil"]), ("c", "Expr", "Expr", rows))
             self.assertEqual(self.check_two(Sure(Pipeline(stage)), read("Add(_, _)")), [(0,), (1,)])
 
