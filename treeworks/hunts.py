@@ -36,12 +36,13 @@ def part_with_other_name(sure, word, lot, path, avoided):
         for maker, lots in walk.choices.made(walk.taken_by(triple[0]))[triple[1]]:
             name, index, rest = looked_up(walk, triple[0], triple[2], maker, lots)
             parts = walk.choices.least_parts(maker, lots)
-            if index is None and name != avoided:
-                return climbed(walk, came, triple, Tree(maker.name, *parts)), name
             if name == DIGIT:
                 parts[index], digit = other_digit(avoided)
                 return climbed(walk, came, triple, Tree(maker.name, *parts)), digit
-            elif index is not None and (name, lots[index], rest) not in came:
+            if index is None:
+                if name != avoided:
+                    return climbed(walk, came, triple, Tree(maker.name, *parts)), name
+            elif (name, lots[index], rest) not in came:
                 came[(name, lots[index], rest)] = (triple, maker, lots, index)
                 waiting.append((name, lots[index], rest))
     return None

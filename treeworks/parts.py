@@ -3,7 +3,7 @@
 from treeworks.algebras import combined
 from treeworks.names import is_digit
 from treeworks.tables import DIGIT
-from treeworks.trees import inner_numbers, is_hole, places
+from treeworks.trees import HOLE, inner_numbers, is_hole, places
 
 
 class Choices:
@@ -67,7 +67,7 @@ class Parts:
 
     def hole(self, kind, index):
         """The number of a hole where this kind is due; holes with different indexes are kept apart."""
-        key = ("_", kind, index)
+        key = (HOLE, kind, index)
         if key not in self._numbers:
             lots = self._choices.all_lots(kind)
             self._add(key, None, (), kind, {lot: [()] for lot in lots})

@@ -36,7 +36,7 @@ def count_of_size(lots, kind, chosen, size):
     counts = {(other, lot): [0] for other in (*lots.table.kinds, DIGIT) for lot in range(lots.many(other))}
     uses = part_rows(lots)
     for total in range(1, size + 1):
-        for key in counts:
+        for key in list(counts):
             counts[key].append(digits_of(lots, key[1]) if total == 1 and key[0] == DIGIT else 0)
         for result, parts in uses:
             rows = [counts[part] for part in parts]
