@@ -206,6 +206,13 @@ class ChangingTest(unittest.TestCase, Raises):
                     sure.pipeline.source.check(part, due_at(sure.pipeline, tree, path))
                     self.assertNotEqual(sure.walk(tree.exchanged(path, part))[place].name, result[place].name)
 
+    def test_the_size_of_the_part(self):
+        sure = Sure(Pipeline(TIDY) * 4)
+        for path in TREE.paths():
+            for place in effect(sure, TREE, path):
+                part = changing(sure, TREE, path, place)
+                self.assertTrue(part.size <= 2000 and part.levels <= 60)
+
     def test_digits(self):
         part = changing(SURE, TREE, (1, 0, 0), (0, 1, 0))
         self.assertIn(part.term, list("012345689"))

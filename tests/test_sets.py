@@ -1,7 +1,7 @@
 import unittest
 from itertools import product
 
-from bounds import CHAIN, GROWING, LEAVES, chain_pipeline
+from bounds import CHAIN, GROWING, LEAVES, PAIRS, balance_pipeline, chain_pipeline
 from helpers import LANG, ODD, Raises, read, right_trees, terms
 from samples import small_pipelines
 from test_lots import MIXED, TIDY, chain
@@ -441,6 +441,12 @@ class BeforeTest(unittest.TestCase, Raises):
         self.assertEqual(before(pipeline, TreeSet.single(CHAIN, read("A"))).smallest().term, "A")
         # The classes of the set tell more trees apart than the pipeline does.
         self.raises(LimitExceeded, before, pipeline, TreeSet.single(CHAIN, chain(3, "F")), limit="lots")
+
+    def test_least_trees_of_more_than_2000_names(self):
+        found = before(balance_pipeline("K O digit = k12\nO: D digit digit = 12"), TreeSet.single(PAIRS, read("Z")))
+        self.assertEqual(found.smallest().size, 1807)
+        large = balance_pipeline("K O digit digit = k123\nO: D digit digit = 12")
+        self.raises(LimitExceeded, before, large, TreeSet.every(PAIRS, "N"), limit="lots")
 
     def test_classes_behind_the_last_stage(self):
         copy = Pipeline(Stage("copy", CHAIN, CHAIN, ("b", "N", "N", ["S(x) => S(b(x))", *[f"{leaf} => {leaf}" for leaf in LEAVES]])))

@@ -206,6 +206,10 @@ class ClashTest(unittest.TestCase, Raises):
         self.check(Sure(Pipeline(CROSS)), read("Add(Num(1), Num(2))"), (0,), (1,), (0, 1))
         self.check(Sure(Pipeline(CROSS)), read("Add(Nil, Nil)"), (1,), (0,), (0, 1))
 
+    def test_the_size_of_the_parts(self):
+        for first, second in clash(Sure(Pipeline(CROSS)), read("Add(Nil, Nil)"), (0,), (1,), (0, 1)):
+            self.assertTrue(first.size <= 2000 and first.levels <= 60 and second.size <= 2000 and second.levels <= 60)
+
     def test_no_place(self):
         sure = Sure(Pipeline(CROSS))
         tree = read("Add(Num(1), Num(2))")
