@@ -75,7 +75,8 @@ class Lines:
         met = {leaf: True}
         waiting = [leaf]
         while waiting:
-            for shape in self._shapes[waiting.pop()]:
+            here = waiting.pop()
+            for shape in self._shapes[here]:
                 if not self.store.is_open(shape):
                     found[shape] = True
                 elif shape not in met:
