@@ -129,7 +129,8 @@ class LotTableTest(unittest.TestCase, Raises):
     def test_wrong_arguments(self):
         for kind in ("K", "", "Add"):
             self.raises(Unknown, self.LOTS.many, kind, name=kind)
-            self.raises(Unknown, self.LOTS.least, kind, 99, name=kind)
+            for lot in (-99, -1, 0, 1, 99):
+                self.raises(Unknown, self.LOTS.least, kind, lot, name=kind)
         for kind, lot in (("Expr", 8), ("Expr", -1), ("digit", 1), ("digit", -1)):
             self.raises(BadIndex, self.LOTS.least, kind, lot, index=lot)
         for name in ("Foo", "Expr", "", "digit", "_", "10"):

@@ -159,6 +159,11 @@ class ExpressionsTest(unittest.TestCase):
             if isinstance(node.value, ast.Call):
                 self.assertNotIn(called(node.value), ("zip", "enumerate", "reversed", "iter"), where(path, node))
 
+    def test_no_star_in_an_index(self):
+        for path, node in nodes(ast.Subscript):
+            stars = [part for part in ast.walk(node.slice) if isinstance(part, ast.Starred)]
+            self.assertEqual(stars, [], where(path, node))
+
     def test_stars_stand_before_names(self):
         for path, node in nodes(ast.Call):
             for part in node.args:

@@ -32,7 +32,9 @@ class LotTable:
 
     def least(self, kind, lot):
         """The least tree of a lot."""
-        if not 0 <= lot < self.many(kind):
+        # The kind comes first, whatever the number is.
+        many = self.many(kind)
+        if not 0 <= lot < many:
             raise BadIndex(lot)
         return self._least[kind][lot]
 

@@ -110,5 +110,6 @@ def all_visits(walk, tour, tree, numbers):
             found.append((path, word))
             for _, inner, index in tour.plan(numbers[at], word, ()).leaves:
                 if inner != DIGIT:
-                    words[(*path, index)][inner] = True
+                    below = (*path, index)
+                    words[below][inner] = True
     return found
