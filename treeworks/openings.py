@@ -17,6 +17,11 @@ class Openings:
         self._parts = Parts(sure.pipeline.source, sure.walk.choices)
         self._top = self._parts.placed(tree, sure.pipeline.takes, apart=True)[0]
 
+    def parting(self, place):
+        """Two lists of parts for the holes with which there are different names at a hole of the sure result."""
+        first, name = self.found(place, None)
+        return first, self.found(place, name)[0]
+
     def found(self, place, avoided):
         """A pair of a list of parts for the holes and of the name at the place of the result, which is not avoided.
 

@@ -31,9 +31,7 @@ def opening(sure, tree, place):
     """Two fillings of a tree whose results have different names at a place, which is a hole of the sure result."""
     if place not in sure_result(sure, tree).holes():
         raise NoPlace(place)
-    openings = Openings(sure, tree)
-    first, name = openings.found(place, None)
-    second = openings.found(place, name)[0]
+    first, second = Openings(sure, tree).parting(place)
     return tree.filled(*first), tree.filled(*second)
 
 

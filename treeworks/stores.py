@@ -154,3 +154,23 @@ def stored_tree(store, tree, open_holes):
         else:
             numbers[at] = store.node(part.name, tuple([numbers[kid] for kid in inner[at]]))
     return numbers[0]
+
+
+class Covering:
+    """Tells whether trees of a store cover others."""
+
+    def __init__(self, store):
+        self._store = store
+        self._known = {}
+
+    def covers(self, first, second):
+        """True if the first tree covers the second one."""
+        store = self._store
+        if first == second or store.names[first] == HOLE:
+            return True
+        key = (first, second)
+        if key not in self._known:
+            kids, others = store.kids[first], store.kids[second]
+            alike = store.names[first] == store.names[second] and len(kids) == len(others)
+            self._known[key] = alike and all([self.covers(kid, other) for kid, other in zip(kids, others)])
+        return self._known[key]

@@ -11,16 +11,38 @@ MOST_UNFOLDED = 50000
 ITSELF = ""
 
 
-class Unfolder:
-    """Keeps the unfolded trees of a pipeline, in a store of its own, with `w(i)` and `digit(i)` as open leaves."""
+class LotSights:
+    """What stages see of the results of words, told from the tables of the lots from each stage on."""
 
     def __init__(self, stages, tables):
-        self.store = Store()
         self._stages = stages
         self._tables = tables
+        self._led = {}
+
+    def seen(self, at, word, kind, lot):
+        """The terms of the looks of the stage with this index that cover the result of a word for a part of a lot."""
+        key = (at, word, kind, lot)
+        if key not in self._led:
+            states = word.split(".") if word != ITSELF and word != DIGIT else []
+            for depth, state in enumerate(states):
+                lot = dict(self._tables[depth].mark(kind, lot)[1])[state]
+                kind = self._stages[depth].named(state).gives
+            self._led[key] = self._tables[at].mark(kind, lot)[0]
+        return self._led[key]
+
+
+class Unfolder:
+    """Keeps the unfolded trees of a pipeline, in a store of its own, with `w(i)` and `digit(i)` as open leaves.
+
+    `sights` tells what the stages see of the results for parts of which only the lot is known, as `LotSights` does.
+    """
+
+    def __init__(self, stages, sights):
+        self.store = Store()
+        self._stages = stages
+        self._sights = sights
         self._unfolded = {}
         self._results = {}
-        self._led = {}
         self._plans = {}
 
     def plan(self, word, maker, lots):
@@ -47,7 +69,7 @@ class Unfolder:
         at = word.count(".")
         seen = {}
         for leaf, name, index in self._plan_of(tree).leaves:
-            seen[leaf] = self._seen(at, name, maker.wants[index], lots[index])
+            seen[leaf] = self._sights.seen(at, name, maker.wants[index], lots[index])
         # Many lots are seen alike by a single stage.
         key = (at, state, tree, tuple([seen[leaf] for leaf in seen]))
         if key not in self._results:
@@ -62,17 +84,6 @@ class Unfolder:
         for index, want in enumerate(maker.wants):
             parts.append(self.store.open_leaf(DIGIT if want == DIGIT else ITSELF, index))
         return self.store.node(maker.name, tuple(parts))
-
-    def _seen(self, at, word, kind, lot):
-        """The terms of the looks of the stage with this index that cover the result of a word for a part."""
-        key = (at, word, kind, lot)
-        if key not in self._led:
-            states = word.split(".") if word != ITSELF and word != DIGIT else []
-            for depth, state in enumerate(states):
-                lot = dict(self._tables[depth].mark(kind, lot)[1])[state]
-                kind = self._stages[depth].named(state).gives
-            self._led[key] = self._tables[at].mark(kind, lot)[0]
-        return self._led[key]
 
 
 def run_over(store, stage, state, top, seen):

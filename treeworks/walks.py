@@ -7,7 +7,7 @@ from treeworks.pipelines import state_names
 from treeworks.stores import tree_of
 from treeworks.tables import DIGIT
 from treeworks.tours import Tour, all_visits
-from treeworks.unfolding import Unfolder
+from treeworks.unfolding import LotSights, Unfolder
 
 
 class Walk:
@@ -17,7 +17,7 @@ class Walk:
         tables = lot_tables(pipeline.stages, None)
         self.pipeline = pipeline
         self.lots = tables[0]
-        self.unfolder = Unfolder(pipeline.stages, tables)
+        self.unfolder = Unfolder(pipeline.stages, LotSights(pipeline.stages, tables))
         self.choices = Choices(tables[0])
 
     def __call__(self, tree):
