@@ -105,8 +105,10 @@ class StatementsTest(unittest.TestCase):
 
     def test_handlers_name_own_errors(self):
         for path, node in nodes(ast.ExceptHandler):
-            self.assertIsInstance(node.type, ast.Name, where(path, node))
-            self.assertNotIn(node.type.id, dir(builtins), where(path, node))
+            named = node.type.elts if isinstance(node.type, ast.Tuple) else [node.type]
+            for name in named:
+                self.assertIsInstance(name, ast.Name, where(path, node))
+                self.assertNotIn(name.id, dir(builtins), where(path, node))
 
     def test_decorators(self):
         for path, node in nodes((ast.FunctionDef, ast.ClassDef)):
@@ -218,7 +220,8 @@ class NamesTest(unittest.TestCase):
         methods, generators = {}, set()
         for path, node in nodes(ast.ClassDef):
             for part in node.body:
-                if isinstance(part, ast.FunctionDef):
+                # Other classes may store an attribute with the name of a property.
+                if isinstance(part, ast.FunctionDef) and not part.decorator_list:
                     methods[part.name] = where(path, part)
         for path, node in nodes(ast.FunctionDef):
             if any(isinstance(part, (ast.Yield, ast.YieldFrom)) for part in ast.walk(node)):

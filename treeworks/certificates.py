@@ -8,10 +8,7 @@ MOST_DIGITS = 9
 
 
 class Certificate:
-    """The base class of certificates."""
-
-    def __init__(self, claim):
-        self.claim = claim
+    """The base class of certificates; each one has its first line as its `claim`."""
 
     @staticmethod
     def read(text):
@@ -26,7 +23,7 @@ class Shown(Certificate):
     """Shows what the sure result of a pipeline for a tree is."""
 
     def __init__(self, title, term, pattern, lots, shows, openings):
-        Certificate.__init__(self, f"shown {title} / {term} => {pattern}")
+        self.claim = f"shown {title} / {term} => {pattern}"
         self.title = title
         self.term = term
         self.pattern = pattern
@@ -46,7 +43,7 @@ class Reach(Certificate):
     """Shows how many frames an exchange can change."""
 
     def __init__(self, title, frames, lots, ranks):
-        Certificate.__init__(self, f"reach {title} / {frames}")
+        self.claim = f"reach {title} / {frames}"
         self.title = title
         self.frames = frames
         self.lots = tuple(lots)

@@ -19,7 +19,7 @@ class Letter:
     def __init__(self, target, rows, maker, lots, index):
         self.target = target
         self.rows = rows
-        self.maker = maker
+        self.head = maker
         self.lots = lots
         self.index = index
 
@@ -160,9 +160,9 @@ def explored(flow):
 
 def node_around(flow, letter, part):
     """The node of a step with this part, and least trees as its other parts."""
-    parts = [flow.least((want, lot)) for want, lot in zip(letter.maker.wants, letter.lots)]
+    parts = [flow.least((want, lot)) for want, lot in zip(letter.head.wants, letter.lots)]
     parts[letter.index] = part
-    return Tree(letter.maker.name, *parts)
+    return Tree(letter.head.name, *parts)
 
 
 def tree_with_load(flow, came, load):

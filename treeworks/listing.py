@@ -66,9 +66,9 @@ class ListedWalk:
 
     def runs_are_small(self):
         """True if no result is too large, stage by stage, for listed trees and for nodes of one maker over them."""
-        return all([self.results.are_small(0, number) for number in self._numbers()])
+        return all([self.results.are_small(0, number) for number in self._run_over()])
 
-    def _numbers(self):
+    def _run_over(self):
         """The numbers of the listed trees, apart from digits, and of the nodes over listed trees."""
         rows = {DIGIT: [self.store.node(tree.name, ()) for tree in self._listed(DIGIT)]}
         found = []

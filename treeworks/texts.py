@@ -63,6 +63,32 @@ def stretches_of(table, tree, paths):
     return list(found.values())
 
 
+def all_stretches(table, tree, raws):
+    """The stretches of all places of a tree that is right with holes, by their paths, in the order of the text.
+
+    For some holes there are strings that stand in the text in their place.
+    """
+    found = {}
+    at = 0
+    waiting = [((), tree)]
+    while waiting:
+        path, piece = waiting.pop()
+        if piece is None:
+            # All parts of the place are behind.
+            found[path] = (found[path][0], at)
+        elif isinstance(piece, str):
+            at += 1
+        elif piece.name in table:
+            found[path] = (at, at)
+            waiting.append((path, None))
+            waiting.extend(pieces_of(path, piece, table.maker(piece.name).form))
+        else:
+            start = at
+            at += len(raws.get(path, piece.name))
+            found[path] = (start, at)
+    return found
+
+
 def sign_path(table, tree, index):
     """The path of the place to which a character of the text belongs."""
     signs = laid_out(table, tree)
