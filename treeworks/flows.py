@@ -165,12 +165,14 @@ def node_around(flow, letter, part):
     return Tree(letter.head.name, *parts)
 
 
-def tree_with_load(flow, came, load):
-    """A tree and a path at which the place has this load."""
-    tree = flow.least(load[0])
+def climbed(flow, came, node, tree):
+    """The tree of which this one is the part at the end of the steps that led to a node, and the path of the part.
+
+    `came` has for each node the one before it and the step from there.
+    """
     path = ()
-    while came[load] is not None:
-        load, letter = came[load]
+    while came[node] is not None:
+        node, letter = came[node]
         tree = node_around(flow, letter, tree)
         path = (letter.index, *path)
     return tree, path

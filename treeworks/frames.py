@@ -61,15 +61,6 @@ def longest_ways(leads):
     return ways
 
 
-def greatest_way(ways):
-    """The greatest of the numbers for all exchanges, 0 if there is none."""
-    most = 0
-    for triple in ways:
-        if ways[triple] > most:
-            most = ways[triple]
-    return most
-
-
 def first_ring(leads, ways):
     """A list of exchanges that lead to one another in a ring, or None; `ways` has those that lead to none."""
     way = [triple for triple in leads if triple not in ways][:1]

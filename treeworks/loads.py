@@ -1,7 +1,7 @@
 """How often digits are copied, and how many places an exchange that keeps the lots can change (points 54 and 55)."""
 
 from treeworks.errors import LimitExceeded
-from treeworks.flows import MOST_LOADS, Flow, explored, node_around, tree_with_load
+from treeworks.flows import MOST_LOADS, Flow, climbed, explored, node_around
 from treeworks.growing import Growing
 from treeworks.sure import Sure
 from treeworks.tables import DIGIT
@@ -62,7 +62,7 @@ def place_of_worth(flow, number):
     # The loads that are near to the top need the smallest trees.
     for load in came:
         if flow.counts_place(load) and flow.worth(load) >= number:
-            return tree_with_load(flow, came, load)
+            return climbed(flow, came, load, flow.least(load[0]))
     return None if grown is None else looped(grown, number)
 
 
@@ -83,11 +83,7 @@ def growth_of(flow):
     if found is None:
         return None
     state, letters, word = found
-    way = Tree(HOLE)
-    above = growing.came[state]
-    while above is not None:
-        way = node_around(flow, above[1], way)
-        above = growing.came[above[0]]
+    way = climbed(flow, growing.came, state, Tree(HOLE))[0]
     loop = Tree(HOLE)
     for letter in letters[::-1]:
         loop = node_around(flow, letter, loop)
@@ -112,11 +108,4 @@ def copied_part(flow, site, word):
                     came[below] = (waiting[at], letter)
                     waiting.append(below)
         at += 1
-    state = waiting[at]
-    tree = flow.least(state[0])
-    path = ()
-    while came[state] is not None:
-        state, letter = came[state]
-        tree = node_around(flow, letter, tree)
-        path = (letter.index, *path)
-    return tree, path
+    return climbed(flow, came, waiting[at], flow.least(waiting[at][0]))

@@ -1,9 +1,9 @@
 """Making certificates (points 50 and 51)."""
 
 from treeworks.certificates import Reach, Shown
-from treeworks.frames import exchanges_of, greatest_way, longest_ways
 from treeworks.lots import lots_of
 from treeworks.openings import Openings
+from treeworks.reaches import greatest_rank, ranked
 from treeworks.sure import Sure, sure_result
 from treeworks.tables import DIGIT
 from treeworks.trees import is_hole
@@ -33,14 +33,11 @@ def show_sure(pipeline, tree):
 def show_reach(pipeline):
     """A `Reach` with the reach of the pipeline, or None if there is no greatest number."""
     lots = lots_of(pipeline)
-    leads = exchanges_of(lots)
-    ways = longest_ways(leads)
-    if len(ways) < len(leads):
+    found = ranked(lots)
+    if found is None:
         return None
-    ranks = []
-    for kind, old, new in leads:
-        ranks.append((lots.least(kind, old).term, lots.least(kind, new).term, ways[(kind, old, new)]))
-    return Reach(pipeline.title, greatest_way(ways), listed_terms(lots), ranks)
+    ranks = [(old.term, new.term, rank) for old, new, rank in found]
+    return Reach(pipeline.title, greatest_rank(found), listed_terms(lots), ranks)
 
 
 def listed_terms(lots):

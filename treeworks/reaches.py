@@ -1,7 +1,7 @@
 """How far an exchange is noticed (points 52 and 53)."""
 
 from treeworks.errors import NoPlace, WrongTree
-from treeworks.frames import exchanges_of, first_ring, greatest_way, longest_ways, way_of_length
+from treeworks.frames import exchanges_of, first_ring, longest_ways, way_of_length
 from treeworks.lots import lots_of
 from treeworks.tables import kind_due_at
 from treeworks.trees import Tree
@@ -37,11 +37,17 @@ def frames_changed(pipeline, tree, path, part):
 
 def reach(pipeline):
     """The greatest number of frames that one exchange changes, or None if there is none."""
-    leads = exchanges_of(lots_of(pipeline))
-    ways = longest_ways(leads)
-    if len(ways) < len(leads):
-        return None
-    return greatest_way(ways)
+    found = ranks(pipeline)
+    return None if found is None else greatest_rank(found)
+
+
+def greatest_rank(found):
+    """The greatest of the ranks that are found, 0 if there is none."""
+    most = 0
+    for _, _, rank in found:
+        if rank > most:
+            most = rank
+    return most
 
 
 def reaching(pipeline, frames):
@@ -78,7 +84,11 @@ def ring(pipeline):
 
 def ranks(pipeline):
     """The tuples of two least trees of lots of one kind and their rank, or None if there is a ring."""
-    lots = lots_of(pipeline)
+    return ranked(lots_of(pipeline))
+
+
+def ranked(lots):
+    """As `ranks`, for the lots of a pipeline."""
     leads = exchanges_of(lots)
     ways = longest_ways(leads)
     if len(ways) < len(leads):
