@@ -105,3 +105,47 @@ def word_pipeline(*states):
 
 TWENTY = ((2, 2), (2, 1), (3, 1))
 TWENTY_ONE = ((2, 1), (2, 2), (3, 1))
+
+
+LOADS = Table.read("table loads\nN: P N N = (12)\nN: S N = s1\nN: A N = a1\nN: B N = b1\nN: C N = c1\nN: Z = z")
+
+
+def joined_calls(state, many):
+    """A template with so many calls of a state for x."""
+    template = f"{state}(x)"
+    for _ in range(many - 1):
+        template = f"P({state}(x), {template})"
+    return template
+
+
+def load_stage(name, factors, keeps):
+    """A stage with one state more than factors: at `A`, `B` or `C` each one calls the next one so many times."""
+    states = []
+    for at, state in enumerate("abcd"[:len(factors) + 1]):
+        rows = [f"P(x, y) => P({state}(x), {state}(y))"] if keeps else []
+        for at_maker, maker in enumerate("ABC"):
+            last = at == len(factors)
+            rows.append(f"{maker}(x) => " + (f"{maker}({state}(x))" if last else joined_calls("abcd"[at + 1], factors[at][at_maker])))
+        states.append((state, "N", "N", [*rows, f"S(x) => S({state}(x))", "_ => Z"]))
+    return Stage(name, LOADS, LOADS, *states)
+
+
+def load_pipeline(factors):
+    """Four stages, each of which goes through its states before the next one does; `P` is dropped by the first one."""
+    stages = [load_stage(f"s{at}", factors[at:at + 3], at > 0) for at in range(0, len(factors), 3)]
+    return Pipeline(*stages)
+
+
+def many_loads(factors):
+    """The number of loads of this pipeline: all products of factors, and the load of zeros."""
+    products, many = {1}, 2
+    for row in factors:
+        products = {product * factor for product in products for factor in row}
+        many += len(products)
+    return many
+
+
+LOADS_2000 = [(3, 2, 4), (5, 2, 4), (5, 1, 3), (4, 5, 2), (3, 1, 2), (2, 3, 4), (1, 4, 3), (2, 4, 5), (2, 1, 3), (2, 4, 3),
+              (1, 3, 4), (1, 4, 5)]
+LOADS_2001 = [(3, 2, 5), (2, 1, 5), (2, 1, 5), (4, 3, 1), (5, 4, 1), (5, 4, 2), (4, 1, 2), (5, 3, 2), (5, 4, 2), (2, 4, 5),
+              (1, 5, 3), (5, 1, 2)]
