@@ -53,9 +53,9 @@ class Patch:
         return isinstance(other, Patch) and self.triples == other.triples
 
 
-# A patched text consists of pieces. A piece is a triple: the start and the end of a stretch that stays, with the empty
-# string, or twice the start of the next such stretch, with a string that is added before it. The end of the last
-# stretch is not known and stands as None.
+# A patched text consists of pieces. A piece is a triple: the start and the end of a stretch of the text before that
+# stays, with the empty string, or twice some index with a string that is added. The last piece is the rest of the text;
+# its end is not known and stands as None.
 
 
 def pieces_of(triples):
@@ -73,31 +73,38 @@ def pieces_of(triples):
 def after_patch(pieces, triples):
     """The pieces of a text of these pieces after the patch with these triples."""
     found = []
-    last = 0
-    for start, end, added in triples:
-        found.extend(cut(pieces, last, start))
-        found.append((0, 0, added))
-        last = end
-    found.extend(cut(pieces, last, None))
-    return found
-
-
-def cut(pieces, first, last):
-    """What of the pieces stands from one index of the text to another one, or to the end for None."""
-    found = []
+    waiting = pieces[::-1]
     at = 0
-    for start, end, added in pieces:
-        if end is None:
-            low = start + first - at if first > at else start
-            found.append((low, None if last is None else start + last - at, ""))
-            return found
-        length = len(added) if added else end - start
-        low = first - at if first > at else 0
-        high = last - at if last is not None and last - at < length else length
-        if low < high:
-            found.append((start, end, added[low:high]) if added else (start + low, start + high, ""))
-        at += length
+    for start, end, added in triples:
+        for stop, stays in ((start, True), (end, False)):
+            while at < stop:
+                head, rest = parted(waiting.pop(), stop - at)
+                if rest is not None:
+                    waiting.append(rest)
+                if stays:
+                    found.append(head)
+                at += length_of(head)
+        found.append((end, end, added))
+    found.extend(waiting[::-1])
     return found
+
+
+def length_of(piece):
+    """The length of a piece whose end is known."""
+    start, end, added = piece
+    return len(added) if added else end - start
+
+
+def parted(piece, most):
+    """The first characters of a piece, not more than this number, and the piece of the others, or None without them."""
+    start, end, added = piece
+    if end is None:
+        return (start, start + most, ""), (start + most, None, "")
+    if length_of(piece) <= most:
+        return piece, None
+    if added:
+        return (start, end, added[:most]), (start, end, added[most:])
+    return (start, start + most, ""), (start + most, end, "")
 
 
 def triples_of(pieces):
