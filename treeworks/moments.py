@@ -81,9 +81,13 @@ class Moment:
 
 def names_along(tree, path):
     """The names on the way along a path, or None if it leads to no place."""
-    if path not in tree:
-        return None
-    return [tree[path[:depth]].name for depth in range(len(path) + 1)]
+    names = [tree.name]
+    for at in path:
+        if not 0 <= at < len(tree.parts):
+            return None
+        tree = tree.parts[at]
+        names.append(tree.name)
+    return names
 
 
 def patch_between(old, new):

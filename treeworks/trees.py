@@ -182,7 +182,7 @@ def inner_numbers(found):
 def in_order(trees):
     """The list of these trees in ascending order, equal ones once."""
     by_rank = {f"{tree.size:>9} {tree.term}": tree for tree in trees}
-    return [by_rank[rank] for rank in sorted([str(rank) for rank in by_rank])]
+    return [by_rank[rank] for rank in sorted([str(key) for key in by_rank])]
 
 
 def name_end(text, start):
