@@ -18,6 +18,7 @@ from treeworks.pipelines import Pipeline
 from treeworks.sets import TreeSet, before
 from treeworks.stages import Stage
 from treeworks.sure import Sure, sure_result
+from treeworks.tables import Table
 from treeworks.texts import parse, text_of
 from treeworks.walks import Walk
 
@@ -197,6 +198,9 @@ class DeedsTest(unittest.TestCase, Raises):
         bench = Bench(P, "z")
         self.raises(Mismatch, bench.change, chain_pipeline(LEAVES, LEAVES, LEAVES))
         self.raises(Mismatch, bench.change, Pipeline(MIXED))
+        # Another source with the same kind.
+        same = Table.read("table same\nExpr: Nil = z")
+        self.raises(Mismatch, bench.change, Pipeline(Stage("s", same, LANG, ("a", "Expr", "Expr", ["_ => Nil"]))))
         odd = Bench(Pipeline(MIXED), "e")
         other = Stage("other", ODD, ODD, ("l", "L", "L", ["_ => Stop"]))
         self.raises(Mismatch, odd.change, Pipeline(other))
@@ -454,6 +458,15 @@ class MomentTest(unittest.TestCase, Raises):
         self.assertEqual(odd.patch.triples, ((0, 1, "."),))
         odd.change(Pipeline(Stage("m", ODD, ODD, ("k", "K", "L", ["_ => Stop"]))))
         self.assertEqual(odd.patch.triples, ())
+
+    def test_patches_of_holes_of_another_kind(self):
+        first = Stage("k", ODD, ODD, ("k", "K", "K", ["Swap(x, y) => Swap(k(x), Stop)", "_ => End"]))
+        second = Stage("l", ODD, ODD, ("k", "K", "L", ["Swap(x, y) => List(End, k(x))", "_ => Stop"]))
+        bench = Bench(Pipeline(first))
+        bench.change(Pipeline(second))
+        self.assertEqual((bench.output, bench.patch.triples), ("_", ((0, 1, "_"),)))
+        bench.change(Pipeline(second))
+        self.assertEqual(bench.patch.triples, ())
 
     def test_holes_in_patches(self):
         bench = Bench(Pipeline(COPY), "(z+3)")

@@ -250,6 +250,32 @@ class FakeFlow:
         return True
 
 
+class FarTest(unittest.TestCase, Raises):
+    """There are more than 2000 loads before a digit is met, so what grows shows where many copies are."""
+
+    TABLE = Table.read("table far\nN: P N N = (12)\nN: S N = s1\nN: A N = a1\nN: B N = b1\nN: C N = c1\nN: D digit N = d12\nN: Z = z")
+
+    def eating(self, name, first):
+        """A stage that takes away three S, and then leaves everything."""
+        again = ["A(x) => P(a(x), a(x))", "B(x) => P(a(x), P(a(x), a(x)))", "C(x) => P(P(a(x), a(x)), P(a(x), P(a(x), a(x))))"]
+        keeps = [f"{maker}(x) => {maker}(d(x))" for maker in "SABC"]
+        rows = [["P(x, y) => Z" if first else f"P(x, y) => P({state}(x), {state}(y))", f"S(x) => {after}(x)", "_ => Z"]
+                for state, after in ("ab", "bc", "cd")]
+        return Stage(name, self.TABLE, self.TABLE, ("a", "N", "N", (again if first else []) + rows[0]), ("b", "N", "N", rows[1]),
+                     ("c", "N", "N", rows[2]), ("d", "N", "N", ["P(x, y) => P(d(x), d(y))", *keeps, "D(e, x) => D(e, Z)", "Z => Z"]))
+
+    def test_copying(self):
+        pipeline = Pipeline(*[self.eating(f"s{at}", at == 0) for at in range(4)])
+        self.assertEqual((copies(pipeline), spread(pipeline)), (None, None))
+        for number in range(9):
+            tree, path = copying(pipeline, number)
+            self.assertTrue(self.TABLE.fits(tree, "N"))
+            self.assertGreaterEqual(len(path), 13 if number > 0 else 1)
+            self.assertGreaterEqual(origins_of(pipeline, tree)[path], number)
+        way, loop, part, path = growth(pipeline, digits=True)
+        self.assertEqual((part[path].name, len(path)), ("0", 13))
+
+
 class GrowingTest(unittest.TestCase):
     def test_against_all_loads(self):
         counts = Counter()

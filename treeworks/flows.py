@@ -158,21 +158,15 @@ def explored(flow):
     return came
 
 
-def node_around(flow, letter, part):
-    """The node of a step with this part, and least trees as its other parts."""
-    parts = [flow.least((want, lot)) for want, lot in zip(letter.head.wants, letter.lots)]
-    parts[letter.index] = part
-    return Tree(letter.head.name, *parts)
+def around(flow, letters, tree):
+    """The tree that has this one at the end of the steps of these letters, and least trees beside them."""
+    for letter in letters[::-1]:
+        parts = [flow.least((want, lot)) for want, lot in zip(letter.head.wants, letter.lots)]
+        parts[letter.index] = tree
+        tree = Tree(letter.head.name, *parts)
+    return tree
 
 
-def climbed(flow, came, node, tree):
-    """The tree of which this one is the part at the end of the steps that led to a node, and the path of the part.
-
-    `came` has for each node the one before it and the step from there.
-    """
-    path = ()
-    while came[node] is not None:
-        node, letter = came[node]
-        tree = node_around(flow, letter, tree)
-        path = (letter.index, *path)
-    return tree, path
+def place_behind(flow, letters, site):
+    """A tree and the path in it that goes the steps of these letters and ends at a least tree of a site."""
+    return around(flow, letters, flow.least(site)), tuple([letter.index for letter in letters])

@@ -63,9 +63,10 @@ def longest_ways(leads):
 
 def first_ring(leads, ways):
     """A list of exchanges that lead to one another in a ring, or None; `ways` has those that lead to none."""
-    way = [triple for triple in leads if triple not in ways][:1]
-    if not way:
+    rest = [triple for triple in leads if triple not in ways]
+    if not rest:
         return None
+    way = [rest[0]]
     met = {way[0]: 0}
     while True:
         after = [triple for triple in leads[way[-1]] if triple not in ways][0]

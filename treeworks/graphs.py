@@ -39,7 +39,7 @@ def leaving_order(graph):
 
 
 def shortest_way(steps, first, last):
-    """The list of the labels on a shortest way from the first node to the last one, or None if there is none.
+    """The list of the labels on a shortest way from the first node to the last one; there must be one.
 
     `steps` has for each node a list of pairs of a label and a next node.
     """
@@ -47,8 +47,6 @@ def shortest_way(steps, first, last):
     waiting = [first]
     at = 0
     while last not in came:
-        if at == len(waiting):
-            return None
         node = waiting[at]
         at += 1
         for label, after in steps[node]:
@@ -65,6 +63,13 @@ def labels_to(came, node):
         node, label = came[node]
         labels.append(label)
     return labels[::-1]
+
+
+def first_of(came, node):
+    """The node with which the way to this one began."""
+    while came[node] is not None:
+        node = came[node][0]
+    return node
 
 
 def reached_from(graph, first):

@@ -5,7 +5,7 @@ is no greatest number of ways exactly if there is a row of steps that leads from
 one word to itself and to another one, and from the other one to itself, too.
 """
 
-from treeworks.graphs import components, labels_to, reached_from, shortest_way
+from treeworks.graphs import components, first_of, labels_to, reached_from, shortest_way
 
 
 class Growing:
@@ -166,10 +166,3 @@ def joint_moves(moves, others):
         for after in moves[letter]:
             found.extend([(letter, (after, other)) for other in others.get(letter, [])])
     return found
-
-
-def first_of(came, node):
-    """The node with which the way to this one began."""
-    while came[node] is not None:
-        node = came[node][0]
-    return node

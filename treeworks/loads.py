@@ -1,7 +1,8 @@
 """How often digits are copied, and how many places an exchange that keeps the lots can change (points 54 and 55)."""
 
 from treeworks.errors import LimitExceeded
-from treeworks.flows import MOST_LOADS, Flow, climbed, explored, node_around
+from treeworks.flows import MOST_LOADS, Flow, after_letter, around, explored, place_behind
+from treeworks.graphs import first_of, labels_to
 from treeworks.growing import Growing
 from treeworks.sure import Sure
 from treeworks.tables import DIGIT
@@ -34,14 +35,19 @@ def growth(pipeline, *, digits=False):
     With `digits`, that there is no greatest number of copies.
     """
     flow = Flow(Sure(pipeline), digits)
-    return None if len(explored(flow)) <= MOST_LOADS else growth_of(flow)
+    grown = None if len(explored(flow)) <= MOST_LOADS else growing_steps(flow)
+    if grown is None:
+        return None
+    top, way, loop, inner = grown
+    part, path = place_behind(flow, inner, last_site(top, [*way, *inner]))
+    return around(flow, way, Tree(HOLE)), around(flow, loop, Tree(HOLE)), part, path
 
 
 def greatest_worth(flow):
     """The greatest worth of a load, or None if there is none."""
     came = explored(flow)
     if len(came) > MOST_LOADS:
-        if growth_of(flow) is None:
+        if growing_steps(flow) is None:
             raise LimitExceeded("loads")
         return None
     most = 0
@@ -54,58 +60,66 @@ def greatest_worth(flow):
 def place_of_worth(flow, number):
     """A tree and a path at which the load is worth at least this number, or None."""
     came = explored(flow)
-    grown = None
-    if len(came) > MOST_LOADS:
-        grown = growth_of(flow)
-        if grown is None:
-            raise LimitExceeded("loads")
+    grown = growing_steps(flow) if len(came) > MOST_LOADS else None
+    if len(came) > MOST_LOADS and grown is None:
+        raise LimitExceeded("loads")
     # The loads that are near to the top need the smallest trees.
     for load in came:
         if flow.counts_place(load) and flow.worth(load) >= number:
-            return climbed(flow, came, load, flow.least(load[0]))
-    return None if grown is None else looped(grown, number)
+            return place_behind(flow, labels_to(came, load), load[0])
+    return None if grown is None else looped_place(flow, grown, number)
 
 
-def looped(grown, number):
-    """The tree in which the part of a growth stands in so many loops, and the path of the place that grows."""
-    way, loop, part, path = grown
-    tree = part
-    for _ in range(number):
-        tree = loop.filled(tree)
-        path = (*loop.holes()[0], *path)
-    return way.filled(tree), (*way.holes()[0], *path)
+def looped_place(flow, grown, number):
+    """As `place_of_worth`, with as many loops of what grows as are needed."""
+    top, way, loop, inner = grown
+    letters = list(way)
+    while flow.worth(load_behind(top, [*letters, *inner])) < number:
+        letters.extend(loop)
+    return place_behind(flow, [*letters, *inner], last_site(top, [*way, *inner]))
 
 
-def growth_of(flow):
-    """As `growth`, for the flow of a pipeline."""
+def load_behind(load, letters):
+    """The load to which the steps of these letters lead from another one."""
+    for letter in letters:
+        load = after_letter(load, letter)
+    return load
+
+
+def last_site(load, letters):
+    """The site to which the steps of these letters lead from a load."""
+    return letters[-1].target if letters else load[0]
+
+
+def growing_steps(flow):
+    """The load of a whole tree, the letters of a way from it to a loop, of the loop, and of a way from it to a place.
+
+    With each loop the load of the place is worth more. None if there is no such loop.
+    """
     growing = Growing(flow)
     found = growing.witness()
     if found is None:
         return None
-    state, letters, word = found
-    way = climbed(flow, growing.came, state, Tree(HOLE))[0]
-    loop = Tree(HOLE)
-    for letter in letters[::-1]:
-        loop = node_around(flow, letter, loop)
-    site = growing.states[state][0]
-    if not flow.digits:
-        return way, loop, flow.least(site), ()
-    part, path = copied_part(flow, site, word)
-    return way, loop, part, path
+    state, loop, word = found
+    first = growing.states[first_of(growing.came, state)][0]
+    top = [load for load in flow.starts() if load[0] == first][0]
+    inner = letters_to_digit(flow, (growing.states[state][0], word)) if flow.digits else []
+    return top, labels_to(growing.came, state), loop, inner
 
 
-def copied_part(flow, site, word):
-    """A tree of a site and the path of a digit in it that has a copy in the result of a word."""
-    came = {(site, word): None}
-    waiting = [(site, word)]
+def letters_to_digit(flow, start):
+    """The letters of a way to a digit that has a copy in the result of a word for a site."""
+    came = {start: None}
+    waiting = [start]
     at = 0
     while waiting[at][0][0] != DIGIT:
-        here, name = waiting[at]
-        for letter in flow.letters(here):
+        site, word = waiting[at]
+        place = flow.live_words(site).index(word)
+        for letter in flow.letters(site):
             for other, row in zip(flow.live_words(letter.target), letter.rows):
                 below = (letter.target, other)
-                if below not in came and flow.live_words(here).index(name) in [place for place, _ in row]:
+                if below not in came and place in [number for number, _ in row]:
                     came[below] = (waiting[at], letter)
                     waiting.append(below)
         at += 1
-    return climbed(flow, came, waiting[at], flow.least(waiting[at][0]))
+    return labels_to(came, waiting[at])
