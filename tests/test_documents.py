@@ -225,6 +225,12 @@ class EditedTest(unittest.TestCase, Raises):
         self.assertEqual(places, [((), "z+3)"), ((0,), ""), ((), "(z3)"), ((1, 0), ""), ((), "(z+3")])
         self.assertEqual(document.edited(1, 2, "").broken, (((), "(3)"),))
 
+    def test_right_by_chance(self):
+        broken = typed(Document(SIDE, "K", "pz4"), (2, 1, "?"), (1, 1, "zs"))
+        self.assertEqual(broken.broken, (((0,), "zs"), ((1, 0), "?")))
+        # The innermost place would be right, too, but the other part is broken no longer.
+        self.assertEqual(told(broken.edited(3, 1, "4")), ("pzs4", "P(Z, S(D(4)))", ()))
+
     def test_parts_side_by_side(self):
         document = Document(SIDE, "K", "pz4")
         self.assertEqual(document.edited(2, 0, "!").broken, (((0,), "z!"),))

@@ -231,6 +231,26 @@ class NamesTest(unittest.TestCase):
             if isinstance(node.ctx, ast.Store):
                 self.assertNotIn(node.attr, methods, where(path, node))
 
+    def test_properties(self):
+        methods, getters, setters = set(), set(), set()
+        for path, node in nodes(ast.ClassDef):
+            for part in node.body:
+                if isinstance(part, ast.FunctionDef):
+                    kinds = [ast.unparse(decorator) for decorator in part.decorator_list]
+                    (getters if "property" in kinds else setters if kinds and kinds[0].endswith(".setter") else methods).add(part.name)
+        self.assertEqual(getters & methods, set())
+        self.assertLessEqual(setters, getters)
+        for path, node in nodes(ast.Attribute):
+            if isinstance(node.ctx, ast.Store) and node.attr in getters:
+                self.assertIn(node.attr, setters, where(path, node))
+
+    def test_no_method_is_read_off_a_class(self):
+        classes = {node.name: {part.name for part in node.body if isinstance(part, ast.FunctionDef) and not part.decorator_list}
+                   for _, node in nodes(ast.ClassDef)}
+        for path, node in nodes(ast.Attribute):
+            if isinstance(node.value, ast.Name) and node.value.id in classes:
+                self.assertNotIn(node.attr, classes[node.value.id], where(path, node))
+
 
 def defined(path):
     names = []

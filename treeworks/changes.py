@@ -1,7 +1,6 @@
 """The differences of two entries of a grove (point 60)."""
 
 from treeworks.errors import BadIndex, LimitExceeded, Mismatch
-from treeworks.groves import MOST_WINDOW
 from treeworks.patches import Patch
 
 MOST_TRIPLES = 100
@@ -37,11 +36,9 @@ class Change:
     def patch_of(self, index):
         """The triple that exchanges the stretch of a difference for the text of the new part."""
         new = self.parts_of(index)[1]
-        length = self.grove.length_of_piece(new)
-        if length > MOST_WINDOW:
-            raise LimitExceeded("window")
         start, end, _, _ = self.stretches_of(index)
-        return start, end, new if isinstance(new, str) else self.grove.window(new, 0, length)
+        # A text that is too long is refused as a window.
+        return start, end, new if isinstance(new, str) else self.grove.window(new, 0, self.grove.length_of(new))
 
     def text_patch(self):
         """The patch with the triples of all differences."""
@@ -84,7 +81,7 @@ def difference_counts(grove, old, new):
         waiting.extend(missing)
         if not missing:
             waiting.pop()
-            own = 1 if pair[0] != pair[1] and not have_one_name(grove, pair) else 0
+            own = 0 if have_one_name(grove, pair) else 1
             counts[pair] = own + sum([counts[below] for below in inner])
     return counts
 
@@ -98,7 +95,7 @@ def have_one_name(grove, pair):
 
 def inner_pairs(grove, pair):
     """The pairs of the parts of two nodes of one maker, as far as they are not equal."""
-    if isinstance(pair[0], str) or pair[0] == pair[1] or not have_one_name(grove, pair):
+    if pair[0] == pair[1] or not have_one_name(grove, pair):
         return []
     olds, news = grove.entry(pair[0])[1], grove.entry(pair[1])[1]
     return [(old, new) for old, new in zip(olds, news) if old != new]
